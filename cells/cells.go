@@ -28,11 +28,20 @@ func New(w int, h int) (*Grid, bool) {
 	if !isSize(w, h) {
 		return nil, false
 	}
+	return blankGrid(w, h), true
+}
+
+func blankGrid(w int, h int) *Grid {
 	g := &Grid{Wide: w, High: h}
 	for i := 0; i < w*h; i++ {
 		g.cells = append(g.cells, blank())
 	}
-	return g, true
+	return g
+}
+
+// Blank makes a grid of the same size, of blank cells.
+func (g *Grid) Blank() *Grid {
+	return blankGrid(g.Wide, g.High)
 }
 
 // Resized makes a grid of another size: the cells that both have are the same, the others blank; false, if that is no size.
@@ -43,15 +52,29 @@ func (g *Grid) Resized(w int, h int) (*Grid, bool) {
 	}
 	for y := 0; y < g.High; y++ {
 		for x := 0; x < g.Wide; x++ {
-			other.Put(x, y, g.cells[y*g.Wide+x])
+			c := g.At(x, y)
+			other.Put(x, y, c)
 		}
 	}
 	return other, true
 }
 
+// Has tells whether there is a column x of a row y.
+func (g *Grid) Has(x int, y int) bool {
+	return x >= 0 && x < g.Wide && y >= 0 && y < g.High
+}
+
+// At tells the cell in column x of row y; one that lies outside counts as blank.
+func (g *Grid) At(x int, y int) Cell {
+	if !g.Has(x, y) {
+		return blank()
+	}
+	return g.cells[y*g.Wide+x]
+}
+
 // Put lays a cell in column x of row y; one that lies outside is let go.
 func (g *Grid) Put(x int, y int, c Cell) {
-	if x < 0 || x >= g.Wide || y < 0 || y >= g.High {
+	if !g.Has(x, y) {
 		return
 	}
 	g.cells[y*g.Wide+x] = c

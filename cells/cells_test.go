@@ -75,6 +75,26 @@ func TestPutOutside(t *testing.T) {
 	stands(t, g, "ab", "cd")
 }
 
+func TestAt(t *testing.T) {
+	g := filled(t, "ab", "cd", "ef")
+	for i, want := range "abcdef" {
+		if c := g.At(i%2, i/2); c != (Cell{Char: byte(want), Style: 3}) || !g.Has(i%2, i/2) {
+			t.Errorf("At(%d, %d) = %v", i%2, i/2, c)
+		}
+	}
+	for _, p := range [][2]int{{-1, 0}, {2, 0}, {0, -1}, {0, 3}, {-1, 1}, {2, 2}, {1 << 62, 1 << 62}, {-1 << 63, 0}, {0, 1<<63 - 1}} {
+		if c := g.At(p[0], p[1]); c != blank() || g.Has(p[0], p[1]) {
+			t.Errorf("At(%d, %d) = %v", p[0], p[1], c)
+		}
+	}
+}
+
+func TestBlank(t *testing.T) {
+	g := filled(t, "abc", "def")
+	stands(t, g.Blank(), "   ", "   ")
+	stands(t, g, "abc", "def")
+}
+
 func TestResized(t *testing.T) {
 	for _, c := range []struct{ from, to []string }{
 		{[]string{"abc", "def"}, []string{"ab"}},
@@ -98,7 +118,7 @@ func TestClear(t *testing.T) {
 		first, end int
 		rows       []string
 	}{
-		{0, 0, []string{"ab", "cd"}}, {0, 1, []string{" b", "cd"}}, {1, 3, []string{"a ", " d"}}, {3, 4, []string{"ab", "c "}}, {-5, 1, []string{" b", "cd"}}, {2, 1 << 62, []string{"ab", "  "}}, {3, 1, []string{"ab", "cd"}}, {-1 << 63, 1<<63 - 1, []string{"  ", "  "}},
+		{0, 0, []string{"ab", "cd"}}, {0, 1, []string{" b", "cd"}}, {1, 3, []string{"a ", " d"}}, {3, 4, []string{"ab", "c "}}, {-5, 1, []string{" b", "cd"}}, {-1, 1, []string{" b", "cd"}}, {-1, 0, []string{"ab", "cd"}}, {2, 1 << 62, []string{"ab", "  "}}, {3, 1, []string{"ab", "cd"}}, {-1 << 63, 1<<63 - 1, []string{"  ", "  "}},
 	} {
 		g := filled(t, "ab", "cd")
 		g.Clear(c.first, c.end)

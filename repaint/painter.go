@@ -2,13 +2,14 @@ package repaint
 
 import (
 	"repaint/api"
+	"repaint/brush"
 	"repaint/cells"
 	"repaint/views"
 )
 
 // Painter shows windows on a terminal.
 type Painter struct {
-	grid   *cells.Grid // what is to be seen of the view
+	grid   *cells.Grid // what is to be seen of the view, and stands on the terminal behind the last answer
 	view   views.View
 	cursor api.Point // where the cursor is to be; any place, on the screen or not
 }
@@ -31,10 +32,10 @@ func (p *Painter) Show(view []api.Window, cursor api.Point) (string, api.Errno) 
 	if e != api.OK {
 		return "", e
 	}
+	before := p.screen()
 	p.view = next
 	p.cursor = cursor
-	p.paint()
-	return "", api.OK
+	return p.change(before), api.OK
 }
 
 // Scroll scrolls a window (P9).
@@ -42,12 +43,12 @@ func (p *Painter) Scroll(key int, by int) (string, api.Errno) {
 	if p == nil {
 		return "", api.ErrNil
 	}
+	before := p.screen()
 	e := p.view.Scroll(key, by)
 	if e != api.OK {
 		return "", e
 	}
-	p.paint()
-	return "", api.OK
+	return p.change(before), api.OK
 }
 
 // Resize paints for another size (P10).
@@ -61,7 +62,7 @@ func (p *Painter) Resize(w int, h int) (string, api.Errno) {
 	}
 	p.grid = grid
 	p.paint()
-	return "", api.OK
+	return p.Redraw()
 }
 
 // Redraw paints everything anew (P11).
@@ -69,7 +70,8 @@ func (p *Painter) Redraw() (string, api.Errno) {
 	if p == nil {
 		return "", api.ErrNil
 	}
-	return "", api.OK
+	now := p.screen()
+	return brush.Whole(now), api.OK
 }
 
 // Row tells what is to stand in a row (P7).
@@ -84,8 +86,24 @@ func (p *Painter) Row(y int) (string, string, api.Errno) {
 	return chars, styles, api.OK
 }
 
-// paint brings the grid up to the view.
+// change brings the cells up to the view, and answers the bytes that do so on a terminal with the screen before.
+func (p *Painter) change(before brush.Screen) string {
+	p.paint()
+	after := p.screen()
+	return brush.Change(before, after)
+}
+
+// paint lays the view on a new grid: the old one tells what stands on the terminal.
 func (p *Painter) paint() {
-	p.grid.Clear(0, p.grid.Wide*p.grid.High)
+	p.grid = p.grid.Blank()
 	p.view.Paint(p.grid)
+}
+
+// screen is what is to stand on the terminal.
+func (p *Painter) screen() brush.Screen {
+	s := brush.Screen{Cells: p.grid}
+	if p.grid.Has(p.cursor.X, p.cursor.Y) {
+		s.Cursor = api.Cursor{X: p.cursor.X, Y: p.cursor.Y, Shown: true}
+	}
+	return s
 }
